@@ -1,0 +1,1 @@
+"""Slackstrings: puppets on strings of unknown lengths."""

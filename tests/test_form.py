@@ -1,6 +1,7 @@
 """The files of the package keep the form that is asked for, as far as a short look tells."""
 
 import ast
+import builtins
 import unittest
 from pathlib import Path
 
@@ -78,3 +79,35 @@ class FormTest(unittest.TestCase):
                 self.assertFalse(isinstance(node, ast.Constant) and "%" in str(node.value), path)
                 for each in getattr(node, "decorator_list", []):
                     self.assertTrue(getattr(each, "id", None) in DECORATORS or getattr(each, "attr", "") == "setter")
+
+    def test_names(self):
+        for path, _, tree in files():
+            taken = {each.name for node in tree.body if isinstance(node, ast.ImportFrom) for each in node.names}
+            taken |= {node.name for node in tree.body if isinstance(node, ast.ClassDef)}
+            for node in ast.walk(tree):
+                name = node.arg if isinstance(node, ast.arg) else getattr(node, "id", None)
+                stored = isinstance(node, ast.arg) or isinstance(getattr(node, "ctx", None), ast.Store)
+                if name and stored:
+                    self.assertNotIn(name, taken, path)
+                    # The examples of other tests leave what they showed last in the builtins, as _.
+                    self.assertTrue(name == "_" or not hasattr(builtins, name), (path, name))
+
+    def test_imports_are_used(self):
+        for path, _, tree in files():
+            used = {node.id for node in ast.walk(tree) if isinstance(node, ast.Name)}
+            for node in tree.body:
+                if isinstance(node, ast.ImportFrom):
+                    self.assertLessEqual({each.name for each in node.names}, used, path)
+
+    def test_what_is_iterated_once(self):
+        """No generator expressions, which would have to be lists mostly; generators have names of their own."""
+        names, yielding = [], set()
+        for path, _, tree in files():
+            for node in ast.walk(tree):
+                self.assertNotIsInstance(node, ast.GeneratorExp, path)
+                if isinstance(node, ast.FunctionDef):
+                    names.append(node.name)
+                    if any(isinstance(each, (ast.Yield, ast.YieldFrom)) for each in ast.walk(node)):
+                        yielding.add(node.name)
+        for name in yielding:
+            self.assertEqual(names.count(name), 1, name)

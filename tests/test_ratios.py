@@ -1,56 +1,19 @@
 """Tests of slackstrings.ratios."""
 
 import unittest
-from decimal import Decimal
 from fractions import Fraction
 from math import gcd
-from unittest.mock import ANY
 
 from slackstrings.errors import InvalidNumber, InvalidText
 from slackstrings.ratios import Ratio
+from tests.values import LONG, NINES, others
 
-NINES = 10 ** 30 - 1
-LONG = 123456789012345678901234567890
 TOPS = [*range(-13, 14), -360, 360, NINES, -NINES, LONG, 7 * LONG // 10]
 BOTTOMS = [*range(1, 61), 61, 64, 97, 360, 1001, NINES, LONG, LONG // 6]
 # Fewer of them where each stands beside each.
 FEW = [(0, 1), (1, 1), (-1, 1), (7, 1), (-7, 1), (1, 2), (-1, 2), (3, 2), (-3, 2), (2, 3), (-2, 3),
        (5, 6), (-5, 6), (7, 60), (-59, 60), (61, 60), (LONG, 1), (-LONG, 7), (LONG, NINES), (-NINES, LONG)]
 WHOLE = [0, 1, -1, 2, -2, 3, 7, -7, 60, LONG, -NINES]
-
-
-class Hostile:
-    """Whoever asks it anything fails."""
-
-    def __eq__(self, other):
-        raise RuntimeError
-
-    def __str__(self):
-        raise RuntimeError
-
-    __bool__ = __len__ = __hash__ = __repr__ = __index__ = __int__ = __lt__ = __gt__ = __str__
-
-
-class Agreeing:
-    """It says that it is equal to everything."""
-
-    def __eq__(self, other):
-        return True
-
-
-def nested(depth):
-    """Lists in one another."""
-    found = []
-    for _ in range(depth):
-        found = [found]
-    return found
-
-
-def others():
-    """Values of other kinds: neither integers nor Ratios nor strings."""
-    return [None, True, False, b"", b"7", (), (1, 2), (7,), [], [1], {}, {"top": 1}, set(), {1},
-            frozenset(), object(), Hostile(), Agreeing(), ANY, int, Ratio, len, Ratio.read, 1j, complex(7),
-            Fraction(1, 2), Fraction(7), Decimal(7), range(7), nested(20), InvalidNumber(7), NotImplemented, ...]
 
 
 STRINGS = ["", "7", "1/2", "seven", "-"]

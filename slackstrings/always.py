@@ -1,15 +1,18 @@
 """What holds for all lengths that keep facts, behind scripts."""
 
+from slackstrings.bounds import greatest_of_level, least_of_level, top_below_level, top_of_level
 from slackstrings.checks import check_facts, check_level, check_scripts, check_wish
-from slackstrings.courses import courses, needed_for, tops_of_level
+from slackstrings.courses import Plan, both_courses
 from slackstrings.errors import InvalidNumber, Never, UnknownPart
 from slackstrings.facts import lengths_at
+from slackstrings.holds import tops_of_level
 from slackstrings.kinds import is_number, is_one_of
 from slackstrings.ratios import Ratio
 from slackstrings.regions import greatests, higher, topped
-from slackstrings.searches import found_for_wish, part_apart, part_for_wish, search_region
-from slackstrings.searches import least_loosening, part_loosened_less
-from slackstrings.vectors import minus, opposite
+from slackstrings.searches import found_for_wish, least_loosening, lengths_apart, part_for_wish, part_loosened_less
+from slackstrings.searches import search_region
+from slackstrings.vectors import minus
+from slackstrings.wishes import levels_in
 
 
 def always(script, facts, wish):
@@ -35,16 +38,14 @@ def greatest(script, facts, level):
     """The greatest value of a level, a Ratio; None if there is no bound."""
     check_facts(script, facts)
     check_level(level, script)
-    top = top_of_level(script, facts, level)
-    return None if top is None else Ratio(top.last_height(), top.scale)
+    return greatest_of_level(script, facts, level)
 
 
 def least(script, facts, level):
     """The least value of a level, a Ratio: there always is a bound."""
     check_facts(script, facts)
     check_level(level, script)
-    top = top_below_level(script, facts, level)
-    return Ratio(-top.last_height(), top.scale)
+    return least_of_level(script, facts, level)
 
 
 def at_greatest(script, facts, level):
@@ -73,7 +74,7 @@ def parting(script, other, facts):
     None if two scripts are alike.
     """
     check_scripts(script, other, facts)
-    lengths = lengths_apart(script, other, facts)
+    lengths = lengths_apart(script, other, facts, [("part", part, "last") for part in script.puppet.parts])
     if lengths is None:
         return None
     here, there = script.run(lengths), other.run(lengths)
@@ -103,82 +104,26 @@ def tolerance(script, facts, index, wish):
     check_wish(wish, script)
     if found_for_wish(script, facts, wish.form, False) is not None:
         raise Never()
+    plan = Plan(script, facts.names, levels_in(wish.form))
     region = search_region(facts, index)
     found = None
-    part = part_for_wish(script, region, wish.form, False)
+    part = part_for_wish(plan, region, wish.form, False)
     while part is not None:
         found = least_loosening(part, facts)
         nearer = part_loosened_less(region, facts, found)
-        part = None if nearer is None else part_for_wish(script, nearer, wish.form, False)
+        part = None if nearer is None else part_for_wish(plan, nearer, wish.form, False)
     return found
-
-
-def top_of_level(script, facts, level):
-    """A region from a corner at which its last form, a level, is as high as with any lengths; None if no bound."""
-    found = None
-    region = facts.region
-    needed = needed_for([level], script)
-    for cell, moments in courses(script, region, needed):
-        for vector in tops_of_level(level, script, moments):
-            top = topped(cell, vector)
-            if top is None:
-                return None
-            found = higher(found, top)
-    return found
-
-
-def top_below_level(script, facts, level):
-    """The same for the opposite of the level.
-
-    It always has a bound: nothing is lowered further than by integers, or than where it holds a part at the floor.
-    """
-    found = None
-    region = facts.region
-    needed = needed_for([level], script)
-    for cell, moments in courses(script, region, needed):
-        tops = tops_of_level(level, script, moments)
-        for inner, vector in greatests(cell, tops):
-            found = higher(found, topped(inner, opposite(vector)))
-    return found
-
-
-def both_courses(script, other, region, parts):
-    """Cells that cover a region, each with the vectors of the hooks of two scripts at all moments.
-
-    Hauls on which the last heights of these parts do not depend are left out.
-    """
-    levels = [("part", part, "last") for part in parts]
-    needed = needed_for(levels, script)
-    needed_there = needed_for(levels, other)
-    for cell, moments in courses(script, region, needed):
-        for inner, moments_there in courses(other, cell, needed_there):
-            yield inner, moments, moments_there
 
 
 def gaps(script, other, facts, part):
     """Cells that cover the facts, with vectors whose greatest is the height of a part less that in another script."""
     level = ("part", part, "last")
+    names = facts.names
+    plan, plan_there = Plan(script, names, [level]), Plan(other, names, [level])
     region = facts.region
-    parts = [part]
-    for cell, moments, moments_there in both_courses(script, other, region, parts):
-        tops = tops_of_level(level, script, moments)
-        tops_there = tops_of_level(level, other, moments_there)
+    for cell, moments, moments_there in both_courses(plan, plan_there, region):
+        tops = tops_of_level(level, script, moments, names)
+        tops_there = tops_of_level(level, other, moments_there, names)
         for inner, low in greatests(cell, tops_there):
             for high in tops:
                 yield inner, minus(high, low)
-
-
-def lengths_apart(script, other, facts):
-    """A new dict of lengths that keep the facts and for which some part ends at another height; None if none do."""
-    region = search_region(facts, None)
-    parts = script.puppet.parts
-    for cell, moments, moments_there in both_courses(script, other, region, parts):
-        for part in parts:
-            level = ("part", part, "last")
-            tops = tops_of_level(level, script, moments)
-            tops_there = tops_of_level(level, other, moments_there)
-            for highs, lows in ((tops, tops_there), (tops_there, tops)):
-                found = part_apart(cell, highs, lows)
-                if found is not None:
-                    return lengths_at(found, facts.names)
-    return None

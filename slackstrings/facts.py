@@ -1,8 +1,8 @@
 """Facts about lengths, and what follows from them for all lengths that keep them."""
 
 from slackstrings.errors import Contradictory, InvalidFacts, InvalidForm, InvalidLengths, InvalidName, InvalidNumber
-from slackstrings.forms import Form
-from slackstrings.kinds import are_small_letters, is_number, is_one_of, is_row
+from slackstrings.forms import is_form_over
+from slackstrings.kinds import are_small_letters, is_number, is_row
 from slackstrings.lengths import are_lengths
 from slackstrings.limits import MOST_FACTS, MOST_STRINGS
 from slackstrings.regions import greatest_in, limited, orthant, topped
@@ -77,11 +77,6 @@ class Facts:
         if not is_number(index) or index >= len(self.forms):
             raise InvalidNumber(index)
         return Facts(self.names, self.forms[:index] + self.forms[index + 1:])
-
-
-def is_form_over(value, names):
-    """Whether value is a Form whose names are all among some others."""
-    return isinstance(value, Form) and all([is_one_of(name, names) for name in value.names])
 
 
 def region_of(names, forms):

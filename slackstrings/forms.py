@@ -1,7 +1,7 @@
 """Forms: sums of an integer and of integer times of lengths."""
 
 from slackstrings.errors import InvalidForm, InvalidLengths, InvalidNumber
-from slackstrings.kinds import is_small_letter, is_whole
+from slackstrings.kinds import is_one_of, is_small_letter, is_whole
 from slackstrings.lengths import are_lengths_for
 from slackstrings.ratios import Ratio
 
@@ -68,6 +68,11 @@ def is_term(value):
     if not isinstance(value, tuple) or len(value) != 2:
         return False
     return is_small_letter(value[0]) and is_whole(value[1]) and value[1] != 0
+
+
+def is_form_over(value, names):
+    """Whether value is a Form whose names are all among some others."""
+    return isinstance(value, Form) and all([is_one_of(name, names) for name in value.names])
 
 
 def summed_terms(terms, others):

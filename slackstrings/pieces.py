@@ -1,9 +1,10 @@
 """Pieces: parts of the lengths in which all heights at all moments are forms."""
 
 from slackstrings.checks import check_facts
-from slackstrings.courses import ends_of, starting, tops_of_part
+from slackstrings.courses import ends_of
 from slackstrings.errors import InvalidMoment, UnknownHook, UnknownPart
 from slackstrings.facts import lengths_at
+from slackstrings.holds import starting, tops_of_part
 from slackstrings.kinds import is_one_of, moment_at
 from slackstrings.regions import greatests
 from slackstrings.vectors import form_of
@@ -53,7 +54,7 @@ class Piece:
 def pieces(script, facts):
     """A list of pieces in which, together, all lengths that keep the facts lie."""
     check_facts(script, facts)
-    hooks = starting(script)
+    hooks = starting(script, facts.names)
     region = facts.region
     rows = []
     return [Piece(script, facts, cell, told) for cell, told in told_courses(script, region, rows, hooks)]
@@ -73,7 +74,7 @@ def told_courses(script, region, rows, hooks):
             yield cell, longer
         else:
             move = script.moves[len(rows)]
-            for inner, moved in ends_of(move, puppet, cell, hooks):
+            for inner, moved in ends_of(move, puppet, puppet.names, cell, hooks):
                 yield from told_courses(script, inner, longer, moved)
 
 
@@ -83,7 +84,7 @@ def told_parts(puppet, region, hooks, parts, found):
         yield region, found
         return
     part, *others = parts
-    tops = tops_of_part(part, puppet, hooks)
+    tops = tops_of_part(part, puppet, hooks, puppet.names)
     for cell, vector in greatests(region, tops):
         longer = {**found, part: vector}
         yield from told_parts(puppet, cell, hooks, others, longer)

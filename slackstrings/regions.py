@@ -134,19 +134,32 @@ def kept(region, form):
     return None if inner.last_height() < 0 else inner
 
 
+def kept_all(region, forms):
+    """The part of the region in which none of some forms is below 0; None if there is none."""
+    part = region
+    for form in forms:
+        part = None if part is None else kept(part, form)
+    return part
+
+
+def holds_throughout(region, form):
+    """Whether a form is below 0 nowhere in a region."""
+    row = region.seen(form)
+    # Most forms show at the corner what they are.
+    if min(row) >= 0 or row[0] < 0:
+        return row[0] >= 0
+    below, column = region.with_last(opposite(form)).climbed(1)
+    return column is None and below.last_height() <= 0
+
+
 def broad(region, form):
     """The part of the region in which a form is not below 0: the region itself, if that is all of it.
 
     None if the part is empty or has less breadth than the region: where a region is put together of closed
     parts, those of its own breadth cover it without the others.
     """
-    row = region.seen(form)
-    if min(row) >= 0:
+    if holds_throughout(region, form):
         return region
-    if row[0] >= 0:
-        below, column = region.with_last(opposite(form)).climbed(1)
-        if column is None and below.last_height() <= 0:
-            return region
     above, column = region.with_last(form).climbed(1)
     if column is not None:
         return above.settled(column)

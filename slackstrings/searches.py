@@ -4,8 +4,9 @@ Regions for searches have one coordinate more than there are lengths, the slack,
 is above 0 is asked as: the form less the slack is not below 0. So lengths are found if the slack can be above 0.
 """
 
-from slackstrings.courses import courses, needed_for, tops_of_level
+from slackstrings.courses import Plan, both_courses, courses
 from slackstrings.facts import lengths_at
+from slackstrings.holds import tops_of_level
 from slackstrings.ratios import Ratio
 from slackstrings.regions import greatests, kept, orthant, topped
 from slackstrings.vectors import minus, opposite, raised, times, vector_of
@@ -30,9 +31,15 @@ def slackened(region, many):
     """The region, behind so many lengths with a slack, from a corner with a slack above 0; None if there is none."""
     if region is None or region.rows[many][0] > 0:
         return region
+    top = slack_climbed(region, many)
+    return top.without_last() if top.last_height() > 0 else None
+
+
+def slack_climbed(region, many):
+    """The region from a corner at which its last condition, the slack once more, is above 0 or as high as it can be."""
     # The slack is at most 1, so it does not rise without a bound.
     top, _ = region.with_last(region.forms[many]).climbed(1)
-    return top.without_last() if top.last_height() > 0 else None
+    return top
 
 
 def kept_at_least(region, form):
@@ -45,18 +52,29 @@ def kept_above(region, form):
     return slackened(kept(region, (*form, -1)), len(form) - 1)
 
 
-def found_for_wish(script, facts, form, wanted):
-    """A new dict of lengths that keep the facts and for which a wish is met or, if not wanted, is not; else None."""
-    region = part_for_wish(script, search_region(facts, None), form, wanted)
+def found_for_sights(script, facts, sights):
+    """A new dict of lengths that keep the facts and lead to all sights; None if there are none."""
+    plan = Plan(script, facts.names, [], sights)
+    region = facts.region
+    for cell, _ in courses(plan, region):
+        return lengths_at(cell, facts.names)
+    return None
+
+
+def found_for_wish(script, facts, form, wanted, sights=()):
+    """The same for lengths for which, besides, a wish of this form is met or, if not wanted, is not."""
+    plan = Plan(script, facts.names, levels_in(form), sights)
+    region = part_for_wish(plan, search_region(facts, None), form, wanted)
     return None if region is None else lengths_at(region, facts.names)
 
 
-def part_for_wish(script, region, form, wanted):
-    """A part of a region for searches in which a wish of this form is met or, if not wanted, is not; else None."""
-    levels = levels_in(form)
-    needed = needed_for(levels, script)
-    for cell, moments in courses(script, region, needed):
-        tops = {level: tops_of_level(level, script, moments) for level in levels}
+def part_for_wish(plan, region, form, wanted):
+    """A part of a region for searches in which a wish of this form is met or, if not wanted, is not; else None.
+
+    The plan is that of the levels in the wish.
+    """
+    for cell, moments in courses(plan, region):
+        tops = {level: tops_of_level(level, plan.script, moments, plan.names) for level in levels_in(form)}
         found = part_for_goals(cell, tops, [(form, wanted)])
         if found is not None:
             return found
@@ -108,6 +126,22 @@ def part_for_over(region, tops, goals):
         found = None if part is None else part_for_goals(part, known, goals[1:])
         if found is not None:
             return found
+    return None
+
+
+def lengths_apart(script, other, facts, levels):
+    """A new dict of lengths that keep the facts and for which some level of both scripts differs; None if none does."""
+    names = facts.names
+    plan, plan_there = Plan(script, names, levels), Plan(other, names, levels)
+    region = search_region(facts, None)
+    for cell, moments, moments_there in both_courses(plan, plan_there, region):
+        for level in levels:
+            tops = tops_of_level(level, script, moments, names)
+            tops_there = tops_of_level(level, other, moments_there, names)
+            for highs, lows in ((tops, tops_there), (tops_there, tops)):
+                found = part_apart(cell, highs, lows)
+                if found is not None:
+                    return lengths_at(found, names)
     return None
 
 

@@ -27,6 +27,11 @@ def form_of(vector, names):
     return Form(vector[0], tuple([(name, number) for name, number in zip(names, vector[1:]) if number != 0]))
 
 
+def plus(one, other):
+    """The sum of two vectors of the same size."""
+    return tuple([first + second for first, second in zip(one, other)])
+
+
 def minus(one, other):
     """The difference of two vectors of the same size."""
     return tuple([first - second for first, second in zip(one, other)])

@@ -1,4 +1,4 @@
-"""The examples of the document, as far as they concern what there is."""
+"""The examples of the document."""
 
 import doctest
 import unittest
@@ -32,9 +32,8 @@ ALL_LENGTHS = """
 >>> five_up = Wish.read("(and (over foot@last foot@0 5) (over foot@0 foot@last -5))")
 >>> [always(script, facts, five_up), always(script, facts, Wish.read("(over body@0 floor 11/2)"))]
 [True, False]
->>> [str(least(script, facts, ("part", "body", 0))), str(greatest(script, facts, ("part", "foot", 2)))]
-['5', '25']
->>> greatest(script, facts, ("length", "b"))
+>>> [str(least(script, facts, ("part", "body", 0))), str(greatest(script, facts, ("part", "foot", 2))), greatest(script, facts, ("length", "b"))]
+['5', '25', None]
 """
 
 TWO_LINES = """
@@ -43,14 +42,21 @@ TWO_LINES = """
 >>> from slackstrings.forms import Form
 >>> from slackstrings.samples import two_lines
 >>> from slackstrings.scripts import Script
+>>> from slackstrings.seen import Seen
+>>> from slackstrings.spares import idle, least_sets
 >>> from slackstrings.wishes import Wish
 >>> start, facts = {"A": 10, "B": 10}, Facts("ab", (Form(4, (("a", -1),)), Form(-5, (("b", 1),))))
 >>> still = Script(two_lines(), start)
+>>> [idle(still, facts), least_sets(still, facts, Wish.read("(over load@0 floor 6)"))]
+['b', ['a']]
 >>> str(tolerance(still, facts, 0, Wish.read("(over load@0 floor 2)")))
 '4'
 >>> once = Script(two_lines(), start, (("move", "AB", 2),))
 >>> alike(once, Script(two_lines(), start, (("move", "A", 2), ("move", "B", 2))), facts)
 True
+>>> free = Seen(still, Facts("ab"), ((0, "load", 7),))
+>>> [str(free.least(("length", "a"))), free.greatest(("length", "a")), str(free.sure(("part", "load", "last"))), free.sure(("length", "b"))]
+['3', None, '7', None]
 """
 
 TEXTS = """

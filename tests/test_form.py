@@ -99,6 +99,16 @@ class FormTest(unittest.TestCase):
                 if isinstance(node, ast.ImportFrom):
                     self.assertLessEqual({each.name for each in node.names}, used, path)
 
+    def test_the_checker_does_not_rest_on_what_finds_certificates(self):
+        found = {path.stem: {module.split(".")[1] for module, _ in imports(tree) if module.startswith("slackstrings.")}
+                 for path, _, tree in files()}
+        reached, left = set(), ["checker"]
+        while left:
+            at = left.pop()
+            reached.add(at)
+            left += found[at] - reached
+        self.assertEqual(reached & {"regions", "searches", "courses", "grounds", "certificates", "facts"}, set())
+
     def test_what_is_iterated_once(self):
         """No generator expressions, which would have to be lists mostly; generators have names of their own."""
         names, yielding = [], set()

@@ -32,6 +32,15 @@ CLASSES = {
         "denied": [], "is_over": ["script"], "holds": ["run"], "__eq__": 1, "__str__": 0,
     },
     "pieces.Piece": {"hook": ["moment", "hook"], "height": ["moment", "part"], "some": [], "has": ["lengths"]},
+    "seen.Seen": {
+        "__init__": ["script", "facts", "sights"], "fits": [], "with_sight": ["moment", "part", "height"], "some": [],
+        "greatest": ["level"], "least": ["level"], "sure": ["level"], "always": ["wish"], "ever": ["wish"],
+    },
+    "stages.Stage": {
+        "__init__": ["puppet", "facts", "start", "guards"], "do": ["move"], "undo": [], "trial": [],
+        "heights": ["lengths"], "__len__": 0,
+    },
+    "consoles.Console": {"__init__": ["script", "facts"], "say": ["line"]},
 }
 
 FUNCTIONS = {
@@ -41,10 +50,13 @@ FUNCTIONS = {
     "always.at_least": ["script", "facts", "level"], "always.alike": ["script", "other", "facts"],
     "always.parting": ["script", "other", "facts"], "always.most_above": ["script", "other", "facts", "part"],
     "always.tolerance": ["script", "facts", "index", "wish"], "pieces.pieces": ["script", "facts"],
-    "samples.stick_man": [], "samples.two_lines": [],
+    "samples.stick_man": [], "samples.two_lines": [], "spares.idle": ["script", "facts"],
+    "spares.least_sets": ["script", "facts", "wish"], "stages.attempt": ["stage", "act"],
+    "checker.holds_claim": ["claim", "certificate"], "certificates.certify_always": ["script", "facts", "wish"],
+    "certificates.certify_ever": ["script", "facts", "wish"],
 }
 
-DEFAULTS = {"bottom": 1, "constant": 0, "terms": (), "forms": (), "moves": ()}
+DEFAULTS = {"bottom": 1, "constant": 0, "terms": (), "forms": (), "moves": (), "sights": (), "guards": ()}
 
 
 def found(path):
@@ -83,6 +95,23 @@ class InterfaceTest(unittest.TestCase):
                 act, module = found(path)
                 self.assertEqual(act.__module__, module)
                 self.assert_parameters(act, names)
+
+    def test_do_all(self):
+        moves, watch = list(inspect.signature(vars(found("stages.Stage")[0])["do_all"]).parameters.values())[1:]
+        self.assertEqual([moves.name, moves.default], ["moves", inspect.Parameter.empty])
+        self.assertIs(moves.kind, inspect.Parameter.POSITIONAL_OR_KEYWORD)
+        self.assertEqual([watch.name, watch.default], ["watch", None])
+        self.assertIs(watch.kind, inspect.Parameter.KEYWORD_ONLY)
+
+    def test_defaults(self):
+        """Just these parameters may be left out."""
+        names = {"ratios.Ratio": ["bottom"], "forms.Form": ["constant", "terms"], "facts.Facts": ["forms"],
+                 "puppets.Puppet": [], "scripts.Script": ["moves"], "wishes.Wish": [], "seen.Seen": ["sights"],
+                 "stages.Stage": ["guards"], "consoles.Console": []}
+        for path, expected in names.items():
+            parameters = inspect.signature(found(path)[0]).parameters.values()
+            left = [each.name for each in parameters if each.default is not inspect.Parameter.empty]
+            self.assertEqual(left, expected)
 
     def test_static_methods(self):
         for path in ("ratios.Ratio", "wishes.Wish"):
